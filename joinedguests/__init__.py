@@ -1,0 +1,1 @@
+"""Companies of guests, put together for all sizes at once."""
