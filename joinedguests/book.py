@@ -102,7 +102,7 @@ class Book:
         """Return the book that bars this three besides."""
         if not is_three(self.ties, three):
             raise NoThree(three)
-        return Book(self.ties, self.barred + (tuple(three),))
+        return Book(self.ties, self.barred + (three,))
 
     def without_barred(self, three):
         """Return the book that lets this three besides."""

@@ -1,5 +1,6 @@
 """Books compared, also up to the names of their ties."""
 
+from joinedguests.book import Book
 from joinedguests.ties import check_backs
 
 
@@ -20,12 +21,7 @@ def same_up_to_names(one, other):
 
 def least_book(book):
     """Return the renamed book with the least barred threes."""
-    least = book.renamed_ties(_renamings(book.ties)[0])
-    for pairs in _renamings(book.ties):
-        renamed = book.renamed_ties(pairs)
-        if renamed.barred < least.barred:
-            least = renamed
-    return least
+    return Book(book.ties, min([book.renamed_ties(pairs).barred for pairs in _renamings(book.ties)]))
 
 
 def _renamings(ties):

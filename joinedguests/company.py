@@ -71,7 +71,7 @@ class Company:
         _check_row(self.ties, place, row, len(self.guests))
         guests = self.guests[:place] + (label,) + self.guests[place:]
         rows = list(self.rows[:place])
-        rows.append(tuple(row[:place]))
+        rows.append(row[:place])
         for later in range(place, len(self.guests)):
             old = self.rows[later]
             rows.append(old[:place] + (self.ties.back(row[later]),) + old[place:])

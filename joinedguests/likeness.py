@@ -70,7 +70,7 @@ def _least_next(table, orders):
         for place in range(len(table)):
             if place in order:
                 continue
-            row = tuple([table[place][ahead] for ahead in order])
+            row = [table[place][ahead] for ahead in order]
             if least is None or row < least:
                 least = row
                 kept = []

@@ -72,7 +72,6 @@ def first_difference(one, other):
 
 def crossing_of(one, other, company):
     """Return the ties from the outsiders of one to those of other in a company."""
-    check_backs(one.ties, other.ties)
     check_backs(one.ties, company.ties)
     firsts = outsiders_of(one, other)
     seconds = outsiders_of(other, one)
@@ -84,7 +83,6 @@ def crossing_of(one, other, company):
 
 def with_crossing(one, other, crossing):
     """Return the company of all guests of both with this crossing."""
-    check_backs(one.ties, other.ties)
     _check_agree(one, other)
     firsts = outsiders_of(one, other)
     seconds = outsiders_of(other, one)
@@ -107,7 +105,7 @@ def merge(book, one, other):
     check_mergeable(book, one, other)
     web = _web_of(one)
     hosts = {label: label for label in common_guests(one, other)}
-    free = list(outsiders_of(one, other))
+    free = outsiders_of(one, other)
     made_one = []
     for y in outsiders_of(other, one):
         known = {hosts[label]: other.tie_of(label, y) for label in hosts}

@@ -1,7 +1,7 @@
 """Two newcomers over a company, and the ties that can stand between them."""
 
 from joinedguests.errors import NotLet, NoTie
-from joinedguests.ties import check_backs, is_same
+from joinedguests.ties import is_same
 
 
 class Joinings:
@@ -73,7 +73,6 @@ def bars_among(book, labels, couples):
 
 
 def _check_newcomers(book, company, one, other):
-    check_backs(book.ties, company.ties)
     if not book.lets(company):
         raise NotLet("company")
     if book.row_fault(company, one) is not None:

@@ -19,6 +19,7 @@ def seat_couples(book, couples):
     """Return the let company with the least rows in which the couples sit, or None."""
     _check_couples(book, couples)
     choices = [[_choices_at(book, couples[j], couples[i]) for i in range(j)] for j in range(len(couples))]
+    # Most lots fail at one pair alone, which is seen without a search.
     if not all([all(line) for line in choices]):
         return None
     rows = _rows_seated(book, choices, (), ())

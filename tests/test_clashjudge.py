@@ -58,6 +58,7 @@ class TestClashFault(unittest.TestCase):
 
     def test_equal(self):
         self.assertEqual(self.fault(one=(0, 1, 1)), "equal")
+        self.assertEqual(self.fault(one=(0, 1, 1), other=[0, 1, 1]), "equal")
         self.assertEqual(self.fault(one=[0, 1, 1], witnesses=()), "equal")
 
     def test_count(self):

@@ -39,6 +39,7 @@ class TestJoinings(unittest.TestCase):
         for one, other in list(product(rows, rows))[::1 + len(rows) // 9]:
             expected = fine(backs, book.barred, one, other)
             found = joinings_of(book, told, list(one), other)
+            self.assertEqual(found, joinings_of(book, told, one, list(other)))
             self.assertEqual(found.ties, expected)
             self.assertIs(found.same, one == other)
             self.assertIs(found.can_join, expected != () or one == other)
