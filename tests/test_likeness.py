@@ -39,8 +39,8 @@ def some_rows(backs, count):
 class TestLikenesses(unittest.TestCase):
     def test_against_all_orders(self):
         for backs in ((0, 1), (1, 0), (0, 2, 1)):
-            for count in range(5):
-                every = some_rows(backs, count)
+            for count in range(6):
+                every = some_rows(backs, count)[::1 + 4 * (count == 5)]
                 for rows, other_rows in product(every, every):
                     expected = over_all_orders(backs, rows, other_rows)
                     one, other = company(backs, rows), company(backs, other_rows)
