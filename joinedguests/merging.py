@@ -78,7 +78,7 @@ def crossing_of(one, other, company):
     for label in firsts + seconds:
         if label not in company:
             raise NoGuest(label)
-    return tuple([company.tie_of(x, y) for x in firsts for y in seconds])
+    return tuple([company.tie_of(x, y) for y in seconds for x in firsts])
 
 
 def with_crossing(one, other, crossing):
@@ -95,7 +95,7 @@ def with_crossing(one, other, crossing):
     for column, y in enumerate(seconds):
         known = {label: other.tie_of(label, y) for label in other if label in web}
         for line, x in enumerate(firsts):
-            known[x] = crossing[line * len(seconds) + column]
+            known[x] = crossing[column * len(firsts) + line]
         _come_in(one.ties, web, y, known)
     return _company_of(one.ties, web)
 

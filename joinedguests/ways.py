@@ -40,7 +40,7 @@ def _crossings(book, one, other):
     check_mergeable(book, one, other)
     _check_outsiders(one, other)
     _check_outsiders(other, one)
-    couples = [(x, y) for x in outsiders_of(one, other) for y in outsiders_of(other, one)]
+    couples = [(x, y) for y in outsiders_of(other, one) for x in outsiders_of(one, other)]
     seats = [(x, y, _couples_at_common(one, other, x, y)) for x, y in couples]
     yield from _crossings_beyond(book, one, other, seats, ())
 

@@ -129,14 +129,24 @@ class TestCrossings(unittest.TestCase):
             self.assertEqual(whole.guests, (1, 2, 4, 5, 6))
             self.assertEqual(whole.part_of((2, 4, 6)), self.one)
             self.assertEqual(whole.part_of((1, 4, 5)), self.other)
-            # x in ascending order, for each x the y in ascending order, the tie from x to y.
+            # y in ascending order, for each y the x in ascending order, the tie from x to y.
             self.assertEqual(
-                (whole.tie_of(2, 1), whole.tie_of(2, 5), whole.tie_of(6, 1), whole.tie_of(6, 5)), crossing)
+                (whole.tie_of(2, 1), whole.tie_of(6, 1), whole.tie_of(2, 5), whole.tie_of(6, 5)), crossing)
             self.assertEqual(crossing_of(self.one, self.other, whole), crossing)
 
     def test_the_other_way_round(self):
-        whole = with_crossing(self.one, self.other, (0, 1, 2, 1))
-        self.assertEqual(crossing_of(self.other, self.one, whole), (0, 1, 2, 2))
+        # The ties from 2 and 6 to 1, then to 5; told back: those from 1 and 5 to 2, then to 6.
+        whole = with_crossing(self.one, self.other, (0, 1, 1, 2))
+        self.assertEqual(crossing_of(self.other, self.one, whole), (0, 2, 2, 1))
+
+    def test_unlike_numbers_of_outsiders(self):
+        # By hand: y = 1 has the entries of x = 2, 6, 8; then y = 5.
+        one = self.one.with_row(8, (0, 1, 2))
+        whole = with_crossing(one, self.other, (0, 1, 2, 2, 1, 1))
+        self.assertEqual([whole.tie_of(x, 1) for x in (2, 6, 8)], [0, 1, 2])
+        self.assertEqual([whole.tie_of(x, 5) for x in (2, 6, 8)], [2, 1, 1])
+        self.assertEqual(crossing_of(one, self.other, whole), (0, 1, 2, 2, 1, 1))
+        self.assertEqual(crossing_of(self.other, one, whole), (0, 1, 2, 2, 1, 2))
 
     def test_no_outsiders(self):
         self.assertEqual(with_crossing(self.one, self.one.without(4), ()), self.one)

@@ -23,7 +23,7 @@ def walk(book, one, other):
     many, backs, barred = book.ties.many, book.ties.backs, set(book.barred)
     firsts = [label for label in one if label not in other]
     seconds = [label for label in other if label not in one]
-    couples = [(x, y) for x in firsts for y in seconds]
+    couples = [(x, y) for y in seconds for x in firsts]
     labels = sorted(set(one) | set(other))
     found = []
     for crossing in product(range(many), repeat=len(couples)):
@@ -102,6 +102,20 @@ class TestWays(unittest.TestCase):
         ways = list(merge_ways(Book(Ties((0, 1))), one, other))
         self.assertEqual(
             ways, [with_crossing(one, other, crossing) for crossing in product((0, 1), repeat=4)])
+
+    def test_order_by_hand(self):
+        # [4.10] by the entries 1 to 3, 2 to 3, 1 to 4, 2 to 4: no row or column of them is all 0.
+        book = Book(Ties((0, 1)), [(0, 0, 0), (0, 0, 1)])
+        one, other = chain((0, 1), 1, [1, 2]), chain((0, 1), 1, [3, 4])
+        crossings = [
+            (0, 1, 1, 0), (0, 1, 1, 1), (1, 0, 0, 1), (1, 0, 1, 1), (1, 1, 0, 1), (1, 1, 1, 0), (1, 1, 1, 1)]
+        ways = [
+            Company(book.ties, (1, 2, 3, 4), ((), (1,), (a, b), (c, d, 1))) for a, b, c, d in crossings]
+        self.assertEqual(list(merge_ways(book, one, other)), ways)
+        self.assertEqual(how_many_ways(book, one, other), 7)
+        for place, way in enumerate(ways):
+            self.assertEqual(way_at(book, one, other, place), way)
+            self.assertEqual(way_place(book, one, other, way), place)
 
     def test_nobody_is_made_one(self):
         book = Book(Ties((0, 1)), [(0, 0, 0), (0, 0, 1)])
