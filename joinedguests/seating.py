@@ -22,7 +22,7 @@ def seat_couples(book, couples):
     # Most lots fail at one pair alone, which is seen without a search.
     if not all([all(line) for line in choices]):
         return None
-    rows = _rows_seated(book, choices, (), ())
+    rows = least_seated_rows(book, choices)
     if rows is None:
         return None
     return Company(book.ties, list(range(len(rows))), rows)
@@ -33,6 +33,15 @@ def refuse_couples(book, couples):
     if seat_couples(book, couples) is not None:
         return None
     return _paper_about(book, couples, ((),), ())
+
+
+def least_seated_rows(book, choices):
+    """Return the least rows of a let company, or None.
+
+    The tie from the guest at place j to the one at place i is one of
+    `choices[j][i]`, which stand in ascending order.
+    """
+    return _rows_seated(book, choices, (), ())
 
 
 def _lots_beyond(book, couples, lot, count):

@@ -49,7 +49,9 @@ class Ties:
     """A number of ties, and for each of them its back."""
 
     def __init__(self, backs):
-        _check_ties(backs)
+        what = ties_fault(backs)
+        if what is not None:
+            raise BadTies(what)
         self.backs = tuple(backs)
         self.many = len(self.backs)
 
@@ -71,15 +73,15 @@ class Ties:
         return self.back(tie) != tie
 
 
-def _check_ties(backs):
+def ties_fault(backs):
+    """Return None if the backs make Ties, else the first word of BadTies that applies."""
     if not is_sequence(backs):
-        raise BadTies("row")
+        return "row"
     many = len(backs)
     if not 2 <= many <= MOST_TIES:
-        raise BadTies("count")
-    for back in backs:
-        if not is_whole(back, 0, many - 1):
-            raise BadTies("tie")
-    for tie in range(many):
-        if backs[backs[tie]] != tie:
-            raise BadTies("back")
+        return "count"
+    if not all([is_whole(back, 0, many - 1) for back in backs]):
+        return "tie"
+    if not all([backs[backs[tie]] == tie for tie in range(many)]):
+        return "back"
+    return None

@@ -27,6 +27,28 @@ FUNCTIONS = {
     "ways": [
         "merge_ways(book, one, other)*", "how_many_ways(book, one, other)", "way_at(book, one, other, k)",
         "way_place(book, one, other, company)"],
+    "hosts": ["merge_all(book, companies)"],
+    "counts": ["how_many(book, company, row)", "fixed_rows(book, company)", "count_fault(book, company, row, found)"],
+    "questions": ["is_name(thing)"],
+    "shapes": [
+        "subquestions(question)*", "push_nots(question)", "opposite_of(question)", "same_but_bound(one, other)",
+        "rename_question(question, pairs)", "split_prefix(question)", "is_universal(question)",
+        "is_existential(question)", "prefix_form(question)", "spread_ties(question, groups)"],
+    "meaning": [
+        "labels_of(question, company, naming)", "check_ties(question, ties)", "meaning_of(question, company, naming)",
+        "true_namings(question, company)*"],
+    "answers": [
+        "answer_of(book, question, company, naming)", "yes_rows(book, question, company, naming, name)",
+        "count_yes(book, question, company, naming, name)"],
+    "changes": ["apply_changes(book, changes)"],
+    "tietext": ["ties_text(ties)", "parse_ties(text)", "company_text(company)", "parse_company(text)"],
+    "booktext": ["book_text(book)", "parse_book(text)"],
+    "everywhere": [
+        "holds_everywhere(book, question)", "holds_somewhere(book, question)", "three_question(p, q, r)",
+        "book_questions(book)"],
+    "sketches": ["first_barred_known(sketch)"],
+    "fullness": [
+        "first_lack(book, company, r)", "thick_lack(book, company, r, m)", "is_full(book, company, r)"],
 }
 
 CLASSES = {
@@ -49,6 +71,27 @@ CLASSES = {
     ("verdict", "Clash(company, one, other, witnesses)"): ["__eq__(self, other)"],
     ("merging", "Merged(company, made_one)"): ["host_of(self, label)", "__eq__(self, other)"],
     ("merging", "Stuck(x, y, clash)"): ["__eq__(self, other)"],
+    ("counts", "Most(number, company)"): ["__eq__(self, other)"],
+    ("questions", "Question()"): ["__invert__(self)", "__and__(self, other)", "__or__(self, other)"],
+    ("questions", "TieIs(x, tie, y)"): ["__eq__(self, other)", "__str__(self)"],
+    ("questions", "Same(x, y)"): ["__eq__(self, other)", "__str__(self)"],
+    ("questions", "Not(body)"): ["__eq__(self, other)", "__str__(self)"],
+    ("questions", "And(one, other)"): ["__eq__(self, other)", "__str__(self)"],
+    ("questions", "Or(one, other)"): ["__eq__(self, other)", "__str__(self)"],
+    ("questions", "Somebody(name, body)"): ["__eq__(self, other)", "__str__(self)"],
+    ("questions", "Everybody(name, body)"): ["__eq__(self, other)", "__str__(self)"],
+    ("questions", "AtLeast(times, name, body)"): ["__eq__(self, other)", "__str__(self)"],
+    ("bench", "Bench(book)"): [
+        "make(self, change)", "take_back(self, number)", "verdict_now(self)", "trial(self)", "tried(self, call)",
+        "__len__(self)", "__iter__(self)"],
+    ("sketches", "Sketch(book, labels, known=())"): [
+        "tie_of(self, x, y)", "with_known(self, x, y, tie)", "only(self, rows)", "filling_fault(self, company)",
+        "all_fillings(self)*", "how_many_fillings(self)", "possible_ties(self, x, y)", "sure_rows(self)",
+        "two_fillings(self, x, y)", "failing_lots(self)", "__eq__(self, other)"],
+    ("facts", "Facts(book, labels)"): [
+        "hear(self, x, y, tie)", "forget(self, x, y)", "put_right(self, x, y, tie)", "trial(self)",
+        "tried(self, call)", "__len__(self)", "__iter__(self)"],
+    ("fullness", "Lack(guests, row, times)"): ["__eq__(self, other)"],
 }
 
 CONSTANTS = [
@@ -89,6 +132,16 @@ class TestInterface(unittest.TestCase):
         self.assertEqual(str(inspect.signature(letting.__func__)), "(ties, threes)")
         self.assertIs(type(vars(module("newcomers").Joinings)["can_join"]), property)
         self.assertIs(type(vars(module("merging").Merged)["dropped"]), property)
+        for name in ("web", "unknown"):
+            self.assertIs(type(vars(module("sketches").Sketch)[name]), property)
+        for name in ("rows", "sketch", "log"):
+            self.assertIs(type(vars(module("facts").Facts)[name]), property)
+
+    def test_questions_are_under_question(self):
+        questions = module("questions")
+        for name, told in CLASSES:
+            if name == "questions" and told != "Question()":
+                self.assertEqual(getattr(questions, told.split("(")[0]).__bases__, (questions.Question,))
 
     def test_constants(self):
         for name, constant, number in CONSTANTS:

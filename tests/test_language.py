@@ -8,14 +8,19 @@ from pathlib import Path
 FOLDER = Path(__file__).resolve().parent.parent / "joinedguests"
 NODES = (
     ast.GeneratorExp, ast.AsyncFunctionDef, ast.Global, ast.Nonlocal, ast.Lambda, ast.AnnAssign, ast.Try,
-    ast.With, ast.NamedExpr, ast.Starred, ast.Div, ast.JoinedStr,
+    ast.NamedExpr, ast.Starred, ast.Div,
 )
-DUNDERS = {"__init__", "__eq__", "__len__", "__iter__", "__contains__", "__or__", "__and__"}
+DUNDERS = {
+    "__init__", "__eq__", "__len__", "__iter__", "__contains__", "__or__", "__and__", "__invert__", "__str__",
+    "__enter__", "__exit__",
+}
 BUILTINS = {
     "len", "range", "enumerate", "zip", "sum", "sorted", "list", "tuple", "set", "isinstance", "any", "all", "iter",
-    "min", "max", "abs",
+    "min", "max", "abs", "dict", "int",
 }
-METHODS = {"append", "extend", "values", "items", "keys", "get", "update"}
+METHODS = {
+    "append", "extend", "pop", "values", "items", "keys", "get", "update", "split", "partition", "join",
+}
 BARRED_WORDS = re.compile(
     r"\b(type|typing|enum|Enum|Flag|Generic|Protocol|ABC|namedtuple|register|mro|elements|open|input|law)\b")
 
@@ -82,7 +87,8 @@ class TestLanguage(unittest.TestCase):
         for name, _, tree in trees():
             for node in ast.walk(tree):
                 if isinstance(node, ast.Call) and isinstance(node.func, ast.Name):
-                    self.assertIn(node.func.id, own | BUILTINS, (name, node.lineno))
+                    # `call` is the function that is passed to tried.
+                    self.assertIn(node.func.id, own | BUILTINS | {"call"}, (name, node.lineno))
                 if isinstance(node, ast.Call) and isinstance(node.func, ast.Attribute):
                     self.assertIn(node.func.attr, own | METHODS, (name, node.lineno))
 
@@ -120,6 +126,61 @@ class TestLanguage(unittest.TestCase):
                     called = getattr(node.func, "id", getattr(node.func, "attr", None))
                     if called in generators:
                         self.assertIn(id(node), good, (name, node.lineno))
+
+    def test_sets_are_sorted_at_once(self):
+        for name, _, tree in trees():
+            good = set()
+            for node in ast.walk(tree):
+                if isinstance(node, ast.Call) and getattr(node.func, "id", None) in ("sorted", "len"):
+                    good.update(id(part) for part in node.args)
+            for node in ast.walk(tree):
+                is_set = isinstance(node, (ast.Set, ast.SetComp))
+                if is_set or isinstance(node, ast.Call) and getattr(node.func, "id", None) == "set":
+                    self.assertIn(id(node), good, (name, node.lineno))
+
+    def test_any_and_all_take_lists(self):
+        for name, _, tree in trees():
+            for node in ast.walk(tree):
+                if isinstance(node, ast.Call) and getattr(node.func, "id", None) in ("any", "all", "sum"):
+                    self.assertEqual(len(node.args), 1, (name, node.lineno))
+                    self.assertIsInstance(node.args[0], (ast.ListComp, ast.Name), (name, node.lineno))
+
+    def test_with_stands_over_trials_of_own_classes(self):
+        for name, _, tree in trees():
+            for node in ast.walk(tree):
+                if isinstance(node, ast.With):
+                    self.assertEqual([ast.unparse(item) for item in node.items], ["self.trial()"], name)
+                if isinstance(node, ast.FunctionDef) and node.name == "__exit__":
+                    self.assertEqual([part.arg for part in node.args.args], ["self", "kind", "value", "trace"])
+                    for row in node.body:
+                        self.assertRegex(ast.unparse(row), r"^self\.[a-z_]+ = self\.[a-z_]+\.[a-z_]+$", name)
+
+    def test_properties_are_not_assigned(self):
+        names = {
+            node.name for _, _, tree in trees() for node in ast.walk(tree)
+            if isinstance(node, ast.FunctionDef) and [getattr(d, "id", "") for d in node.decorator_list] == ["property"]}
+        self.assertTrue({"rows", "log", "sketch", "web", "unknown"} <= names)
+        for name, _, tree in trees():
+            for node in ast.walk(tree):
+                if isinstance(node, ast.Attribute) and isinstance(node.ctx, ast.Store) and node.attr in names:
+                    # Other classes may have an attribute of this name, each of its own.
+                    self.assertEqual(node.value.id, "self", (name, node.lineno))
+
+    def test_no_method_is_read_off_a_class(self):
+        classes = {node.name for _, _, tree in trees() for node in tree.body if isinstance(node, ast.ClassDef)}
+        for name, _, tree in trees():
+            for node in ast.walk(tree):
+                if isinstance(node, ast.Attribute) and isinstance(node.value, ast.Name) and node.value.id in classes:
+                    self.assertEqual((node.value.id, node.attr), ("Book", "letting"), (name, node.lineno))
+
+    def test_f_strings_are_plain(self):
+        for name, _, tree in trees():
+            for node in ast.walk(tree):
+                if isinstance(node, ast.JoinedStr):
+                    self.assertEqual(node.lineno, node.end_lineno, name)
+                if isinstance(node, ast.FormattedValue):
+                    self.assertIsInstance(node.value, (ast.Name, ast.Attribute), (name, node.lineno))
+                    self.assertIsNone(node.format_spec, name)
 
     def test_barred_words(self):
         for name, text, tree in trees():
