@@ -66,6 +66,8 @@ def cases_of(book, body, name, company, seats):
 
 def _is_some_or_all(book, question, company, seats):
     """Return the answer to a Somebody or an Everybody."""
+    if question.name not in question.body.free:
+        return is_yes(book, question.body, company, seats)
     wanted = not isinstance(question, Everybody)
     for _, wider, inner in cases_of(book, question.body, question.name, company, seats):
         if is_yes(book, question.body, wider, inner) == wanted:
@@ -75,6 +77,9 @@ def _is_some_or_all(book, question, company, seats):
 
 def _are_enough(book, question, company, seats):
     """Return the answer to an AtLeast."""
+    # A name that is not free need not be tried with everybody to find nobody.
+    if question.name not in question.body.free and not is_yes(book, question.body, company, seats):
+        return False
     total = 0
     for row, wider, inner in cases_of(book, question.body, question.name, company, seats):
         if is_yes(book, question.body, wider, inner):

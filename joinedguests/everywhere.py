@@ -8,13 +8,13 @@ from joinedguests.shapes import is_existential, is_universal
 
 def holds_everywhere(book, question):
     """Return None, or a least company of the book in which a universal question does not hold."""
-    _check_question(book, question, is_universal(question))
+    _check_sentence(book, question, is_universal(question))
     return _least_company(book, question, False)
 
 
 def holds_somewhere(book, question):
     """Return a least company of the book in which an existential question holds, or None."""
-    _check_question(book, question, is_existential(question))
+    _check_sentence(book, question, is_existential(question))
     return _least_company(book, question, True)
 
 
@@ -29,7 +29,7 @@ def book_questions(book):
     return tuple([three_question(p, q, r) for p, q, r in book.least_barred])
 
 
-def _check_question(book, question, is_fit):
+def _check_sentence(book, question, is_fit):
     if len(question.free) > 0:
         raise NotSuch("free")
     if not is_fit:

@@ -68,7 +68,7 @@ class Facts:
         fact = self._fact_about((min(x, y), max(x, y)))
         if fact is None:
             raise BadFact("unknown")
-        self.heard = _without(self.heard, fact)
+        self.heard = _but_row(self.heard, fact)
         self.calls = self.calls + (("forget",) + fact,)
 
     def put_right(self, x, y, tie):
@@ -77,7 +77,7 @@ class Facts:
         fact = self._fact_about(row)
         if fact is None:
             raise BadFact("unknown")
-        self._tell("put_right", row, _without(self.heard, fact))
+        self._tell("put_right", row, _but_row(self.heard, fact))
 
     def trial(self):
         """Return an object for `with`, at whose end all is as it was at its beginning."""
@@ -126,11 +126,11 @@ class Facts:
         """Return facts that can not hold together, of which none can be left out."""
         kept = rows
         for row in rows:
-            fewer = _without(kept, row)
+            fewer = _but_row(kept, row)
             if not self._can_hold(fewer):
                 kept = fewer
         return kept
 
 
-def _without(rows, row):
+def _but_row(rows, row):
     return tuple([other for other in rows if other != row])

@@ -15,7 +15,7 @@ def merge_all(book, companies):
     core = [label for label in companies[0] if all([label in other for other in companies])]
     together = {}
     for index, company in enumerate(companies):
-        _check_company(book, companies[0], company, index, core, together)
+        _check_comer(book, companies[0], company, index, core, together)
         for label in company:
             together[label] = True
     whole = Company(book.ties)
@@ -24,7 +24,7 @@ def merge_all(book, companies):
     return whole
 
 
-def _check_company(book, first, company, index, core, together):
+def _check_comer(book, first, company, index, core, together):
     """Raise an error if a company can not come to those ahead, who have these labels."""
     # Other backs than the book's are refused by company_fault.
     barred = book.company_fault(company)

@@ -115,7 +115,7 @@ class TestCompanies(TextCase):
 
     def test_read_back(self):
         chance = random.Random(1)
-        for count in list(range(12)) + [59, 60]:
+        for count in range(61):
             for backs in BACKS:
                 labels = sorted(chance.sample(range(10 ** 9 + 1), count))
                 rows = [[chance.randrange(len(backs)) for _ in range(j)] for j in range(count)]
