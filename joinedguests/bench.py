@@ -12,7 +12,7 @@ class BenchState:
     def __init__(self, bench):
         self.book = bench.book
         self.standing = bench.standing
-        self.told = bench.log
+        self.calls = bench.calls
         self.last = bench.last
         self.earlier = bench.state
 
@@ -24,7 +24,7 @@ class Bench:
         self.start = book
         self.book = book
         self.standing = ()
-        self.log = ()
+        self.calls = ()
         self.last = 0
         self.state = None
 
@@ -41,16 +41,21 @@ class Bench:
     def __exit__(self, kind, value, trace):
         self.book = self.state.book
         self.standing = self.state.standing
-        self.log = self.state.told
+        self.calls = self.state.calls
         self.last = self.state.last
         self.state = self.state.earlier
+
+    @property
+    def log(self):
+        """One entry for each call that was not refused."""
+        return self.calls
 
     def make(self, change):
         """Make a change and return its number."""
         self.book = apply_changes(self.book, (change,))
         self.last = self.last + 1
         self.standing = self.standing + ((self.last, tuple(change)),)
-        self.log = self.log + (("make", self.last, tuple(change)),)
+        self.calls = self.calls + (("make", self.last, tuple(change)),)
         return self.last
 
     def take_back(self, number):
@@ -59,7 +64,7 @@ class Bench:
         others = tuple([pair for pair in self.standing if pair[0] != number])
         self.book = _book_behind(self.start, others)
         self.standing = others
-        self.log = self.log + (("back", number, change),)
+        self.calls = self.calls + (("back", number, change),)
 
     def verdict_now(self):
         """Return the verdict of the book as it is now."""

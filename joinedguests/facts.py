@@ -45,6 +45,11 @@ class Facts:
         """The facts as rows (x, y, tie), x < y."""
         return self.heard
 
+    @rows.setter
+    def rows(self, value):
+        # Facts change by their calls alone; other classes give an attribute this name.
+        raise AttributeError("the rows of facts are not assigned")
+
     @property
     def sketch(self):
         """The sketch with the facts as known rows."""

@@ -96,6 +96,15 @@ class TestBench(BenchCase):
         self.assertIs(type(bench.standing[0][1]), tuple)
         self.assertEqual(bench.start, Book(Ties((0, 1)), [(0, 0, 1)]))
 
+    def test_the_log_is_read_and_not_assigned(self):
+        bench = Bench(START)
+        self.assertEqual(bench.log, ())
+        bench.make(["let", 0, 0, 1])
+        self.assertEqual(bench.log, (("make", 1, ("let", 0, 0, 1)),))
+        with self.assertRaises(AttributeError):
+            bench.log = ()
+        self.assertEqual(bench.log, (("make", 1, ("let", 0, 0, 1)),))
+
     def test_nothing_is_kept(self):
         change = ["bar", 0, 0, 0]
         bench = Bench(START)

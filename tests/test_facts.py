@@ -82,6 +82,17 @@ class TestFacts(FactsCase):
         self.assertEqual(self.state(facts), ((), (), (), [], 0))
         self.assertEqual(facts.sketch, Sketch(RINGS, (1, 2, 5)))
 
+    def test_properties_are_read_and_not_assigned(self):
+        facts = Facts(RINGS, [1, 2, 3])
+        facts.hear(2, 1, 0)
+        for name, told in [("rows", ((1, 2, 0),)), ("log", (("hear", 1, 2, 0),)), ("sketch", None)]:
+            if told is not None:
+                self.assertEqual(getattr(facts, name), told)
+            with self.assertRaises(AttributeError):
+                setattr(facts, name, ())
+        self.assertEqual(facts.sketch, Sketch(RINGS, [1, 2, 3], [(1, 2, 0)]))
+        self.assertEqual((facts.rows, facts.log), (((1, 2, 0),), (("hear", 1, 2, 0),)))
+
     def test_refused_at_the_beginning(self):
         for labels, index, what in [
             (None, 0, "sequence"), ("12", 0, "sequence"), (list(range(7)), 6, "many"), ((1, 1), 1, "label"), ((True,), 0, "label"),

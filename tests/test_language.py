@@ -7,7 +7,7 @@ from pathlib import Path
 
 FOLDER = Path(__file__).resolve().parent.parent / "joinedguests"
 NODES = (
-    ast.GeneratorExp, ast.AsyncFunctionDef, ast.Global, ast.Nonlocal, ast.Lambda, ast.AnnAssign, ast.Try,
+    ast.GeneratorExp, ast.AsyncFunctionDef, ast.Global, ast.Nonlocal, ast.Lambda, ast.AnnAssign,
     ast.NamedExpr, ast.Starred, ast.Div,
 )
 DUNDERS = {
@@ -16,10 +16,11 @@ DUNDERS = {
 }
 BUILTINS = {
     "len", "range", "enumerate", "zip", "sum", "sorted", "list", "tuple", "set", "isinstance", "any", "all", "iter",
-    "min", "max", "abs", "dict", "int",
+    "min", "max", "abs", "dict", "int", "str", "AttributeError",
 }
 METHODS = {
     "append", "extend", "pop", "values", "items", "keys", "get", "update", "split", "partition", "join",
+    "setdefault", "index",
 }
 BARRED_WORDS = re.compile(
     r"\b(type|typing|enum|Enum|Flag|Generic|Protocol|ABC|namedtuple|register|mro|elements|open|input|law)\b")
@@ -29,6 +30,20 @@ def trees():
     for path in sorted(FOLDER.glob("*.py")):
         text = path.read_text(encoding="ascii")
         yield path.name, text, ast.parse(text)
+
+
+def properties():
+    """For each name of a property, for each class that has it in the order of files, whether it has a setter."""
+    found = {}
+    for _, _, tree in trees():
+        for node in tree.body:
+            if isinstance(node, ast.ClassDef):
+                parts = [part for part in node.body if isinstance(part, ast.FunctionDef) and part.decorator_list]
+                told = {(part.name, ast.unparse(part.decorator_list[0])) for part in parts}
+                for word, decorator in sorted(told):
+                    if decorator == "property":
+                        found.setdefault(word, []).append((word, word + ".setter") in told)
+    return found
 
 
 class TestLanguage(unittest.TestCase):
@@ -76,7 +91,8 @@ class TestLanguage(unittest.TestCase):
                 if not isinstance(node, ast.FunctionDef):
                     continue
                 for decorator in node.decorator_list:
-                    self.assertIn(decorator.id, ("property", "staticmethod"), name)
+                    words = ("property", "staticmethod", node.name + ".setter")
+                    self.assertIn(ast.unparse(decorator), words, name)
                 self.assertIsNone(node.returns, name)
                 if node.name.startswith("__"):
                     self.assertIn(node.name, DUNDERS, name)
@@ -149,22 +165,40 @@ class TestLanguage(unittest.TestCase):
         for name, _, tree in trees():
             for node in ast.walk(tree):
                 if isinstance(node, ast.With):
-                    self.assertEqual([ast.unparse(item) for item in node.items], ["self.trial()"], name)
+                    told = [ast.unparse(item) for item in node.items]
+                    self.assertEqual(told, ["hall.trial()" if name == "hall.py" else "self.trial()"], name)
                 if isinstance(node, ast.FunctionDef) and node.name == "__exit__":
                     self.assertEqual([part.arg for part in node.args.args], ["self", "kind", "value", "trace"])
                     for row in node.body:
                         self.assertRegex(ast.unparse(row), r"^self\.[a-z_]+ = self\.[a-z_]+\.[a-z_]+$", name)
+                        self.assertNotIn(row.targets[0].attr, properties(), name)
 
-    def test_properties_are_not_assigned(self):
-        names = {
-            node.name for _, _, tree in trees() for node in ast.walk(tree)
-            if isinstance(node, ast.FunctionDef) and [getattr(d, "id", "") for d in node.decorator_list] == ["property"]}
-        self.assertTrue({"rows", "log", "sketch", "web", "unknown"} <= names)
+    def test_a_property_without_a_setter_is_assigned_nowhere(self):
+        told = properties()
+        self.assertEqual(
+            told, {
+                "can_join": [False], "dropped": [False], "log": [False, False], "rows": [True], "sketch": [False],
+                "unknown": [False], "web": [False]})
+        stored = set()
         for name, _, tree in trees():
             for node in ast.walk(tree):
-                if isinstance(node, ast.Attribute) and isinstance(node.ctx, ast.Store) and node.attr in names:
-                    # Other classes may have an attribute of this name, each of its own.
-                    self.assertEqual(node.value.id, "self", (name, node.lineno))
+                if isinstance(node, ast.Attribute) and isinstance(node.ctx, (ast.Store, ast.Del)):
+                    stored.add(node.attr)
+                    self.assertTrue(all(told.get(node.attr, [])), (name, node.lineno, node.attr))
+                if isinstance(node, ast.Call) and isinstance(node.func, ast.Name):
+                    self.assertNotEqual(node.func.id, "setattr", (name, node.lineno))
+        # What has a setter is needed: errors keep what they are passed under its name.
+        self.assertTrue({attr for attr in told if all(told[attr])} <= stored)
+
+    def test_a_try_catches_own_errors_by_name(self):
+        own = {node.name for name, _, tree in trees() if name == "errors.py" for node in tree.body
+               if isinstance(node, ast.ClassDef)}
+        for name, _, tree in trees():
+            for node in ast.walk(tree):
+                if isinstance(node, ast.Try):
+                    self.assertEqual(node.finalbody, [], (name, node.lineno))
+                    for handler in node.handlers:
+                        self.assertIn(ast.unparse(handler.type), own, (name, node.lineno))
 
     def test_no_method_is_read_off_a_class(self):
         classes = {node.name for _, _, tree in trees() for node in tree.body if isinstance(node, ast.ClassDef)}
@@ -190,7 +224,9 @@ class TestLanguage(unittest.TestCase):
                 text = text.replace(doc or "\n\n\n\n", "")
             text = re.sub(r"#.*", "", text)
             self.assertIsNone(BARRED_WORDS.search(text), name)
-            self.assertNotIn("%", text, name)
+            for node in ast.walk(tree):
+                if isinstance(node, ast.Constant) and isinstance(node.value, str):
+                    self.assertNotIn("%", node.value, name)
 
     def test_no_imports_in_a_circle(self):
         needs = {
