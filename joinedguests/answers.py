@@ -9,9 +9,7 @@ from joinedguests.questions import And, AtLeast, Everybody, Not, Or, Same, TieIs
 def answer_of(book, question, company, naming):
     """Return whether the halls of the book answer yes."""
     check_in_hall(book, company)
-    labels = labels_of(question, company, naming)
-    check_ties(question, company.ties)
-    return is_yes(book, question, company, dict(zip(question.free, labels)))
+    return is_yes(book, question, company, seats_of(question, company, naming))
 
 
 def yes_rows(book, question, company, naming, name):
@@ -28,6 +26,13 @@ def count_yes(book, question, company, naming, name):
     if any([endless_tie_of(book, row) is not None for row in rows]):
         return None
     return len(labels) + sum([number_of(book, row) for row in rows])
+
+
+def seats_of(question, company, naming):
+    """Return the label of the guest for each free name, or raise an error."""
+    labels = labels_of(question, company, naming)
+    check_ties(question, company.ties)
+    return dict(zip(question.free, labels))
 
 
 def is_yes(book, question, company, seats):

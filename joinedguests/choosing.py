@@ -1,4 +1,4 @@
-"""Lots chosen from things in order."""
+"""Lots chosen from things in order, and tuples of numbers."""
 
 
 def chosen_from(things, count):
@@ -10,3 +10,13 @@ def chosen_from(things, count):
         for rest in chosen_from(things[place + 1:], count - 1):
             lots.append((first,) + rest)
     return lots
+
+
+def tuples_below(count, many):
+    """Yield all tuples of so many whole numbers from 0 to many - 1, ascending."""
+    if count == 0:
+        yield ()
+        return
+    for ahead in tuples_below(count - 1, many):
+        for number in range(many):
+            yield ahead + (number,)

@@ -1,5 +1,6 @@
 """What a question means in a company."""
 
+from joinedguests.choosing import tuples_below
 from joinedguests.errors import BadNaming, NoGuest, OtherTie, Unnamed
 from joinedguests.questions import And, AtLeast, Everybody, Not, Or, Same, TieIs, is_name
 from joinedguests.shapes import subquestions
@@ -60,9 +61,24 @@ def labels_of(question, company, naming):
     return labels_of_names(question.free, company, naming)
 
 
+def told_labels(naming):
+    """Return the label of each name, or raise BadNaming."""
+    told = {}
+    for index, pair in enumerate(naming):
+        if not is_sequence(pair) or len(pair) != 2:
+            raise BadNaming(index, "pair")
+        name, label = pair
+        if not is_name(name):
+            raise BadNaming(index, "name")
+        if name in told:
+            raise BadNaming(index, "double")
+        told[name] = label
+    return told
+
+
 def labels_of_names(names, company, naming):
     """Return the labels of these names, which stand in ascending order."""
-    told = _told_labels(naming)
+    told = told_labels(naming)
     for name in names:
         if name not in told:
             raise Unnamed(name)
@@ -91,31 +107,6 @@ def true_namings(question, company):
     """Yield the labels of the free names under which the question holds, ascending."""
     check_ties(question, company.ties)
     walk = Walk(company)
-    for places in _places_of(len(question.free), len(company)):
+    for places in tuples_below(len(question.free), len(company)):
         if walk.holds(question, 0, dict(zip(question.free, places))):
             yield tuple([company.guests[place] for place in places])
-
-
-def _told_labels(naming):
-    """Return the label of each name, or raise BadNaming."""
-    told = {}
-    for index, pair in enumerate(naming):
-        if not is_sequence(pair) or len(pair) != 2:
-            raise BadNaming(index, "pair")
-        name, label = pair
-        if not is_name(name):
-            raise BadNaming(index, "name")
-        if name in told:
-            raise BadNaming(index, "double")
-        told[name] = label
-    return told
-
-
-def _places_of(count, many):
-    """Yield all tuples of so many places, ascending."""
-    if count == 0:
-        yield ()
-        return
-    for ahead in _places_of(count - 1, many):
-        for place in range(many):
-            yield ahead + (place,)

@@ -36,12 +36,19 @@ def refuse_couples(book, couples):
 
 
 def least_seated_rows(book, choices):
-    """Return the least rows of a let company, or None.
+    """Return the least rows of a let company with these choices, or None."""
+    for rows in seated_rows(book, choices):
+        return rows
+    return None
+
+
+def seated_rows(book, choices):
+    """Yield the rows of all let companies with these choices, ascending.
 
     The tie from the guest at place j to the one at place i is one of
     `choices[j][i]`, which stand in ascending order.
     """
-    return _rows_seated(book, choices, (), ())
+    yield from _rows_seated(book, choices, (), ())
 
 
 def _lots_beyond(book, couples, lot, count):
@@ -85,17 +92,16 @@ def _choices_at(book, couple, ahead):
 
 
 def _rows_seated(book, choices, rows, row):
-    """Return the least rows that begin with `rows` and then `row`, or None."""
+    """Yield the rows that begin with `rows` and then `row`, ascending."""
     if len(rows) == len(choices):
-        return rows
+        yield rows
+        return
     if len(row) == len(rows):
-        return _rows_seated(book, choices, rows + (row,), ())
+        yield from _rows_seated(book, choices, rows + (row,), ())
+        return
     for tie in choices[len(rows)][len(row)]:
         if _barred_third(book, rows, row, tie) is None:
-            found = _rows_seated(book, choices, rows, row + (tie,))
-            if found is not None:
-                return found
-    return None
+            yield from _rows_seated(book, choices, rows, row + (tie,))
 
 
 def _barred_third(book, rows, row, tie):

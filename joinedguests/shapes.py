@@ -30,6 +30,18 @@ def subquestions(question):
         waiting.extend(parts_of(part)[::-1])
 
 
+def has_at_least(question):
+    """Return whether an AtLeast stands in a question."""
+    return any([isinstance(part, AtLeast) for part in subquestions(question)])
+
+
+def spare_names(count, taken):
+    """Return the first so many names that are not taken."""
+    # No question has as many names as there are with one or two letters.
+    names = list(LETTERS) + [first + second for first in LETTERS for second in LETTERS]
+    return tuple([name for name in names if name not in taken][:count])
+
+
 def push_nots(question):
     """Return a question of the same meaning with Not over TieIs, Same and AtLeast alone."""
     return _pushed(question, True)
@@ -58,7 +70,7 @@ def rename_question(question, pairs):
     """Return the question with new names, by pairs (old, new), in the place of free names."""
     names = _new_names(question, pairs)
     news = tuple(list(names.values()))
-    spare = _spare_names(len(news), question.free + question.bound + news)
+    spare = spare_names(len(news), question.free + question.bound + news)
     return _renamed(question, names, {}, dict(zip(news, spare)))
 
 
@@ -88,13 +100,13 @@ def is_existential(question):
 
 def prefix_form(question):
     """Return a question of the same meaning with all its binders in front."""
-    if any([isinstance(part, AtLeast) for part in subquestions(question)]):
+    if has_at_least(question):
         raise NoPrefix("times")
     if question.binders > MOST_DEPTH:
         raise NoPrefix("deep")
     if len(question.free) + question.binders > MOST_FREE:
         raise NoPrefix("wide")
-    prefix, found = _pulled(question, {}, _spare_names(question.binders, question.free))
+    prefix, found = _pulled(question, {}, spare_names(question.binders, question.free))
     for word, name in prefix[::-1]:
         found = Somebody(name, found) if word == "some" else Everybody(name, found)
     return found
@@ -208,13 +220,6 @@ def _with_names(question, x, y):
     if isinstance(question, TieIs):
         return TieIs(x, question.tie, y)
     return Same(x, y)
-
-
-def _spare_names(count, taken):
-    """Return the first so many names that are not taken."""
-    # No question has as many names as there are with one or two letters.
-    names = list(LETTERS) + [first + second for first in LETTERS for second in LETTERS]
-    return tuple([name for name in names if name not in taken][:count])
 
 
 def _pulled(question, names, spare):

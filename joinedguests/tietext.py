@@ -42,10 +42,15 @@ def parse_company(text):
     return Company(ties, labels, rows)
 
 
-def rows_of_text(text):
-    """Return the rows of a text."""
+def check_text(text):
+    """Raise BadText if this is no string."""
     if not isinstance(text, str):
         raise BadText(1, "text")
+
+
+def rows_of_text(text):
+    """Return the rows of a text."""
+    check_text(text)
     return text.split("\n")
 
 

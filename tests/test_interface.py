@@ -2,7 +2,9 @@
 
 import importlib
 import inspect
+import re
 import unittest
+from pathlib import Path
 
 FUNCTIONS = {
     "ties": ["is_whole(thing, low, high)", "is_label(thing)"],
@@ -49,6 +51,34 @@ FUNCTIONS = {
     "sketches": ["first_barred_known(sketch)"],
     "fullness": [
         "first_lack(book, company, r)", "thick_lack(book, company, r, m)", "is_full(book, company, r)"],
+    "widening": ["asking_fault(book, company, guests, row)", "widened_row(book, company, guests, row, but)"],
+    "hall": ["tried(hall, askings)"],
+    "growing": ["grow(book, rounds, size)", "finish(book)"],
+    "leading": [
+        "seat_company(hall, company)", "lead_on(one, other, pairs, guest)", "lead_back(one, other, pairs, guest)",
+        "lead_all(one, other, pairs=())", "zigzag(one, other, turns)"],
+    "mends": [
+        "good_lots(book, pool, kind, sitting=())", "least_mends(book, pool, kind, sitting=())",
+        "spoilers(book, pool, kind, sitting=())", "mends_fault(book, pool, kind, sitting, mends)"],
+    "pairs": [
+        "book_beside(one, other)", "first_of(one, other, company)", "second_of(one, other, company)",
+        "put_beside(one, other, first, second)", "beside_verdict(one, other)"],
+    "papers": [
+        "paper_of(book, question, company, naming)", "paper_fault(book, question, company, naming, paper)"],
+    "parting": ["parting_question(one, one_naming, other, other_naming, depth)"],
+    "peeling": [
+        "peel(sketch)", "fill_by_peeling(sketch)", "clumps_book()", "unfillable(labels, couples)", "ring_sketch(n)"],
+    "questiontext": ["question_text(question)", "parse_question(text)"],
+    "seen": [
+        "seen_company(seeing, company)", "seen_book(seeing, book)", "unseen_book(seeing, book)",
+        "lifted_companies(seeing, book, company)*", "led_question(seeing, question)"],
+    "situations": [
+        "all_situations(book, names)*", "yes_of(book, question)", "plain_form(book, question)",
+        "same_answers(book, one, other)", "follows(book, one, other)"],
+    "wheels": ["all_wheels(book, n)*", "least_wheel(book, r, most)", "climb_tie(book)"],
+    "within": [
+        "book_within(outer, inner)", "lots_of(outer, inner, company)",
+        "put_within(outer, inner, outer_company, inner_companies)", "within_verdict(outer, inner)"],
 }
 
 CLASSES = {
@@ -92,6 +122,15 @@ CLASSES = {
         "hear(self, x, y, tie)", "forget(self, x, y)", "put_right(self, x, y, tie)", "trial(self)",
         "tried(self, call)", "__len__(self)", "__iter__(self)"],
     ("fullness", "Lack(guests, row, times)"): ["__eq__(self, other)"],
+    ("hall", "Hall(book)"): [
+        "meet(self, guests, row)", "who_meet(self, guests, row)", "another(self, guests, row, but)",
+        "came_for(self, label)", "trial(self)", "__len__(self)", "__contains__(self, label)", "__iter__(self)"],
+    ("mends", "Mend(lot, book, verdict)"): [],
+    ("peeling", "Order(labels)"): ["__eq__(self, other)"],
+    ("peeling", "Ring(labels)"): ["__eq__(self, other)"],
+    ("seen", "Seeing(ties, onto)"): ["ties_seen_as(self, tie)", "__eq__(self, other)"],
+    ("wheels", "Wheel(ties, steps)"): ["spread(self, k)", "__len__(self)", "__eq__(self, other)"],
+    ("within", "Lots(lots, outer, inners)"): [],
 }
 
 CONSTANTS = [
@@ -104,7 +143,28 @@ def module(name):
     return importlib.import_module("joinedguests." + name)
 
 
+def listed():
+    """The modules of the interface in DOC.md, each with the names that are listed under its heading."""
+    text = (Path(__file__).resolve().parent.parent.parent / "shared" / "DOC.md").read_text(encoding="utf-8")
+    found = {}
+    for part in re.split(r"\n## joinedguests/", text)[1:]:
+        head, _, body = part.partition(".py")
+        names = re.findall(r"`?\b([A-Za-z_]+)\(", body.split("\n", 1)[1])
+        found[head] = {name for name in names if not name.startswith("__")}
+    return found
+
+
 class TestInterface(unittest.TestCase):
+    @unittest.skipUnless((Path(__file__).resolve().parent.parent.parent / "shared" / "DOC.md").exists(), "no DOC.md")
+    def test_all_that_the_document_lists_is_looked_at(self):
+        for name, names in listed().items():
+            told = {function.split("(")[0] for function in FUNCTIONS.get(name, [])}
+            for (where, cls), methods in CLASSES.items():
+                if where == name:
+                    told |= {cls.split("(")[0], *(method.split("(")[0] for method in methods)}
+            errors = {part for part in names if hasattr(module("errors"), part)}
+            self.assertEqual(names - told - errors - {"letting"}, set(), name)
+
     def check(self, thing, told, where):
         generator = told.endswith("*")
         name, parameters = told.rstrip("*").split("(", 1)
@@ -136,6 +196,18 @@ class TestInterface(unittest.TestCase):
             self.assertIs(type(vars(module("sketches").Sketch)[name]), property)
         for name in ("rows", "sketch", "log"):
             self.assertIs(type(vars(module("facts").Facts)[name]), property)
+
+    def test_attributes_are_set_when_an_object_is_made(self):
+        ties = module("ties").Ties((0, 1))
+        book = module("book").Book(ties)
+        for thing, names in [
+            (module("hall").Hall(book), "book company"), (module("seen").Seeing(ties, (0, 1)), "ties onto seen_ties"),
+            (module("wheels").Wheel(ties, (0,)), "ties steps company"), (module("mends").Mend(1, 2, 3), "lot book verdict"),
+            (module("within").Lots(1, 2, 3), "lots outer inners"), (module("peeling").Order(1), "labels"),
+            (module("peeling").Ring(1), "labels"), (module("bench").Bench(book), "start book standing log"),
+        ]:
+            for name in names.split():
+                self.assertTrue(hasattr(thing, name), name)
 
     def test_questions_are_under_question(self):
         questions = module("questions")
