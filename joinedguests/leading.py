@@ -11,10 +11,11 @@ def seat_company(hall, company):
     """Return the labels of the guests of a hall to which those of a company are led."""
     if not hall.book.lets(company):
         raise NotLet("company")
+    rows = list(company.rows)
     before = HallState(hall)
     labels = ()
     try:
-        for row in company.rows:
+        for row in rows:
             labels = labels + (hall.meet(labels, row),)
     except HallBound:
         hall.stand_as(before)
@@ -42,7 +43,7 @@ def lead_all(one, other, pairs=()):
     """Lead on all guests of one, and return all pairs."""
     _check_pairs(one, other, pairs)
     found = [tuple(pair) for pair in pairs]
-    there = one.company.guests
+    there = list(one.company.guests)
     before = HallState(other)
     try:
         for guest in there:
@@ -109,7 +110,7 @@ def _led(one, other, pairs, guest):
 def _with_next(one, other, pairs):
     """Return the pairs, and one more of the least guest of one that has none, if there is such a one."""
     firsts = [first for first, _ in pairs]
-    for guest in one.company.guests:
-        if guest not in firsts:
-            return pairs + ((guest, _led(one, other, pairs, guest)),)
-    return pairs
+    free = [guest for guest in one.company.guests if guest not in firsts]
+    if len(free) == 0:
+        return pairs
+    return pairs + ((free[0], _led(one, other, pairs, free[0])),)

@@ -83,8 +83,9 @@ def _check_pool(book, pool, kind, sitting):
 def _good_lots(book, pool, kind, sitting):
     """Return the list of all good lots, shorter ones first, then ascending."""
     lots = []
+    indices = list(range(len(pool)))
     for count in range(len(pool) + 1):
-        for lot in chosen_from(range(len(pool)), count):
+        for lot in chosen_from(indices, count):
             if _is_good(_book_behind_lot(book, pool, lot), kind, sitting):
                 lots.append(lot)
     return lots

@@ -97,6 +97,8 @@ def _first_peelable(web, labels):
 
 def _least_ring(web, labels):
     """Return the ring with the fewest guests, of these the least, or None."""
+    # In ascending order, what is found first begins with its least label and has the lesser
+    # of its neighbours as the second one.
     for count in range(LEAST_RING, len(labels) + 1):
         for first in labels:
             ring = _ring_beyond(web, labels, (first,), count)
@@ -106,17 +108,17 @@ def _least_ring(web, labels):
 
 
 def _ring_beyond(web, labels, path, count):
-    """Return the least ring of so many guests that begins with these, or None."""
+    """Return the first ring of so many guests that begins with these, or None."""
+    if len(path) == count:
+        return path
     is_last = len(path) + 1 == count
-    ends = (path[0], path[-1]) if is_last else path[-1:]
+    neighbours = (path[0], path[-1]) if is_last else path[-1:]
     for label in labels:
         near = tuple([other for other in path if (label, other) in web])
-        # A ring is written from its least label on, and in the direction of the lesser second one.
-        if label <= path[0] or label in path or near != ends or (is_last and label < path[1]):
-            continue
-        ring = path + (label,) if is_last else _ring_beyond(web, labels, path + (label,), count)
-        if ring is not None:
-            return ring
+        if label not in path and near == neighbours:
+            ring = _ring_beyond(web, labels, path + (label,), count)
+            if ring is not None:
+                return ring
     return None
 
 

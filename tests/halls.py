@@ -3,6 +3,7 @@
 from itertools import combinations, product
 
 from joinedguests.book import Book
+from joinedguests.hall import Hall
 from joinedguests.ties import Ties
 from joinedguests.verdict import joins
 from oracle import BACKS, all_books, company, fine, lawful, tie_in
@@ -62,6 +63,16 @@ def random_asking(chance, book, told, most):
         return None
     ties = dict(zip(sorted(labels), chance.choice(news)))
     return labels, [ties[label] for label in labels]
+
+
+def grown(chance, book, count):
+    """A hall after so many askings at random."""
+    hall = Hall(book)
+    for _ in range(count):
+        asked = random_asking(chance, book, hall.company, 3)
+        if asked is not None:
+            hall.meet(*asked)
+    return hall
 
 
 class PlainBound(Exception):

@@ -4,7 +4,7 @@ import random
 import unittest
 
 from halls import (
-    CLASHES, CLUMPS, COUPLES, FOUR, FREE, OTHER_FOUR, THREE, WIDE, PlainHall, joined_books, lawful_over,
+    CLASHES, CLUMPS, COUPLES, FOUR, FREE, OTHER_FOUR, THREE, WIDE, PlainHall, grown, joined_books, lawful_over,
     random_asking, rows_among, tie_of,
 )
 from joinedguests.book import Book
@@ -30,15 +30,6 @@ class HallCase(unittest.TestCase):
         with self.assertRaises(BadRow) as caught:
             call(*things)
         self.assertEqual(caught.exception.what, what)
-
-    def grown(self, book, chance, count):
-        """A hall after so many askings at random."""
-        hall = Hall(book)
-        for _ in range(count):
-            asked = random_asking(chance, book, hall.company, 3)
-            if asked is not None:
-                hall.meet(*asked)
-        return hall
 
 
 class TestBeginning(HallCase):
@@ -127,7 +118,7 @@ class TestMeet(HallCase):
     def test_each_lawful_row_can_be_met(self):
         chance = random.Random(2)
         for book in joined_books()[::2]:
-            hall = self.grown(book, chance, 6)
+            hall = grown(chance, book, 6)
             labels = sorted(chance.sample(range(len(hall)), min(3, len(hall))))
             for row in lawful_over(book, hall.company, labels):
                 with hall.trial():
@@ -426,7 +417,7 @@ class TestTrials(HallCase):
     def test_tried_against_meet(self):
         chance = random.Random(6)
         for book in joined_books()[::3]:
-            hall, real = self.grown(book, chance, 4), Hall(book)
+            hall, real = grown(chance, book, 4), Hall(book)
             for label in hall:
                 real.meet(*hall.came_for(label))
             before = self.state(hall)

@@ -143,6 +143,17 @@ class TestLanguage(unittest.TestCase):
                     if called in generators:
                         self.assertIn(id(node), good, (name, node.lineno))
 
+    def test_ranges_and_zips_are_not_passed_on(self):
+        takers = {"list", "tuple", "dict", "sorted", "sum", "any", "all", "enumerate", "zip", "min", "max"}
+        for name, _, tree in trees():
+            for node in ast.walk(tree):
+                if isinstance(node, ast.Call) and getattr(node.func, "id", None) not in takers:
+                    for part in node.args:
+                        if isinstance(part, ast.Call):
+                            called = getattr(part.func, "id", getattr(part.func, "attr", None))
+                            told = (name, node.lineno, called)
+                            self.assertNotIn(called, ("range", "zip", "enumerate", "reversed", "items", "keys", "values"), told)
+
     def test_sets_are_sorted_at_once(self):
         for name, _, tree in trees():
             good = set()

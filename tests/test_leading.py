@@ -5,7 +5,7 @@ import unittest
 from itertools import combinations
 
 from halls import (
-    CLUMPS, COUPLES, FOUR, FREE, THREE, WIDE, joined_books, random_asking, random_company, tie_of,
+    CLUMPS, COUPLES, FOUR, FREE, THREE, WIDE, grown, joined_books, random_company, tie_of,
 )
 from joinedguests.book import Book
 from joinedguests.company import Company
@@ -20,16 +20,6 @@ from oracle import chain
 
 def state(hall):
     return hall.company, [hall.came_for(label) for label in hall]
-
-
-def grown(chance, book, count):
-    """A hall after so many askings at random."""
-    hall = Hall(book)
-    for _ in range(count):
-        asked = random_asking(chance, book, hall.company, 3)
-        if asked is not None:
-            hall.meet(*asked)
-    return hall
 
 
 def copied(hall):

@@ -274,6 +274,20 @@ class TestMendsFault(MendsCase):
                 told = [Mend(mend.lot, mend.book, verdict) if other is mend else other for other in self.mends]
                 self.assertEqual(self.fault(told), "bad")
 
+    def test_bad_by_kind_and_by_sitting(self):
+        """Book and verdict may be right behind a lot that is not good."""
+        for mend in self.mends:
+            told = mends_fault(self.book, self.pool, "strict", (), [mend])
+            expected = "bad" if isinstance(mend.verdict, Joins) else None
+            self.assertEqual(told if told == "bad" else None, expected)
+        self.assertTrue(any(isinstance(mend.verdict, Joins) for mend in self.mends))
+        free = Book(Ties((0, 1)), [(1, 1, 1)])
+        mend = Mend((), free, Strict())
+        self.assertIsNone(mends_fault(free, [("bar", 0, 0, 0)], "strict", (), [mend]))
+        sitting = [chain((0, 1), 0, [1, 2, 3]), chain((0, 1), 1, [1, 2, 3])]
+        self.assertIsNone(mends_fault(free, [("bar", 0, 0, 0)], "strict", sitting[:1], [mend]))
+        self.assertEqual(mends_fault(free, [("bar", 0, 0, 0)], "strict", sitting, [mend]), "bad")
+
     def test_any_right_joins_will_do(self):
         """A Joins with more guests than need be is right, too; for a book that joins strictly none is."""
         book = Book(Ties((0, 1)), [(0, 0, 0), (0, 0, 1)])

@@ -280,6 +280,22 @@ class TestPaperFault(PaperCase):
         for part in (None, True, "plain", ["plain"], (), ("plain", 1), ("not", ("plain",)), (["plain"],), object(), {}, ((),)):
             self.assertEqual(paper_fault(COUPLES, Q, TOLD, NAMING, ("yes", part)), ("form", ()))
 
+    def test_a_thing_that_is_equal_to_all(self):
+        class Alike:
+            def __eq__(self, other):
+                return True
+
+            __hash__ = None
+
+        told = Alike()
+        some = Somebody("p", Same("p", "a"))
+        for question, paper, fault in [
+            (Q, told, ("form", ())), (Q, (told, ("plain",)), ("form", ())), (Q, ("yes", (told,)), ("form", ())),
+            (some, ("yes", (told, 3, ("plain",))), ("form", ())), (some, ("yes", ("one", told, ("plain",))), ("guest", ())),
+            (some, ("yes", ("row", told, ("plain",))), ("row", ())), (some, ("yes", ("row", (told,), ("plain",))), ("row", ())),
+        ]:
+            self.assertEqual(paper_fault(COUPLES, question, TOLD, NAMING, paper), fault)
+
     def test_each_fault_and_its_path(self):
         plain = ("plain",)
         both = And(Q, Not(Same("a", "b")))

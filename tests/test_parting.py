@@ -216,6 +216,7 @@ class TestRefused(unittest.TestCase):
             ([("a", 1)], [], "a"), ([], [("a", 99)], "a"), ([("b", 1), ("c", 1)], [("a", 1), ("c", 1)], "a"),
             ([("z", 1), ("c", 1)], [("d", 1), ("c", 1)], "d"),
             ([("a", 99), ("b", 1), ("c", 1)], [("a", 1), ("b", 1)], "c"),
+            ([(name, 1) for name in "zwvyxu"], [(name, 1) for name in "tsmopqrn"], "m"),
         ]:
             self.bad(Unnamed, {"name": name}, self.told, ones, self.many, others, 9)
 

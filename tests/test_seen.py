@@ -6,11 +6,11 @@ from itertools import product
 
 from asking import holds, random_question
 from joinedguests.book import Book
-from joinedguests.company import Company
 from joinedguests.errors import BadQuestion, BadSeeing, NoTie, OtherTie, OtherTies, TooMany
 from joinedguests.meaning import meaning_of
 from joinedguests.questions import And, Not, Or, Same, Somebody, TieIs
 from joinedguests.seen import Seeing, led_question, lifted_companies, seen_book, seen_company, unseen_book
+from joinedguests.shapes import spread_ties
 from joinedguests.ties import Ties
 from joinedguests.verdict import joins_strictly
 from oracle import BACKS, all_books, chain, classes, company, let_rows, search, tie_in
@@ -250,6 +250,8 @@ class TestLedQuestion(unittest.TestCase):
             for _ in range(4):
                 question = random_question(chance, "ab", seeing.seen_ties.many, chance.randint(1, 12))
                 led = led_question(seeing, question)
+                groups = [[tie for tie in range(len(backs)) if seeing.onto[tie] == seen_tie] for seen_tie in range(4)]
+                self.assertEqual(led, spread_ties(question, groups[:seeing.seen_ties.many]))
                 self.assertEqual(led.free, question.free)
                 seats = {name: chance.randrange(count) for name in question.free}
                 expected = holds(question, seen_backs, seen.rows, seats)

@@ -5,7 +5,7 @@ import unittest
 from itertools import combinations, product
 
 from asking import kind, random_question, walked
-from halls import COUPLES, FOUR, FREE, OTHER_FOUR, THREE, WIDE, joined_books, random_asking, random_company, tie_of
+from halls import COUPLES, FOUR, FREE, OTHER_FOUR, THREE, WIDE, grown, joined_books, random_company, tie_of
 from joinedguests.answers import answer_of
 from joinedguests.book import Book
 from joinedguests.counts import how_many
@@ -24,15 +24,6 @@ from joinedguests.ties import Ties
 from joinedguests.verdict import Strict, verdict_of
 from joinedguests.wheels import least_wheel
 from oracle import all_books
-
-
-def grown(chance, book, count):
-    hall = Hall(book)
-    for _ in range(count):
-        asked = random_asking(chance, book, hall.company, 3)
-        if asked is not None:
-            hall.meet(*asked)
-    return hall
 
 
 class TestMergedCompaniesSit(unittest.TestCase):
